@@ -22,15 +22,15 @@ def never_chosen():
 
 
 def ahead_of(move, fact):
-    times = [0] * len(move)
+    together = [0] * len(move)
     number = fact.number
     for each, given in zip(fact.times, move):
         if given.source is not None:
-            times[given.source] += each
+            together[given.source] += each
         number -= each * given.added
     if fact.kind == REMAINDER:
         number = number % fact.divisor
-    return Fact(times, fact.kind, fact.divisor, number)
+    return Fact(together, fact.kind, fact.divisor, number)
 
 
 # What is so where the branch is not chosen; of more tests than one it is unknown which one does not hold.

@@ -75,7 +75,8 @@ def read_test(reader, counters):
     if kind == TEST_REMAINDER:
         return read_remainder(reader, times)
     if kind == TEST_BELOW:
-        times[reader.take_from(0, counters - 1)] -= 1
+        other = reader.take_from(0, counters - 1)
+        times[other] -= 1
     return Fact(times, AT_MOST, 0, read_number(reader))
 
 
