@@ -34,3 +34,9 @@ def first_not_holding(facts, values):
 # Asked for what is at most a number alone: whole numbers make "not at most c" into "at least c + 1".
 def contrary(fact):
     return Fact([-each for each in fact.times], AT_MOST, 0, -fact.number - 1)
+
+
+def fact_as_numbers(fact):
+    if fact.kind == REMAINDER:
+        return fact.times + [REMAINDER, fact.divisor, fact.number]
+    return fact.times + [fact.kind, fact.number]

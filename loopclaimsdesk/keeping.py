@@ -9,6 +9,12 @@ HOLDS = 2
 SHOWN = 3
 CHECK = 4
 TRIM = 5
+USE = 6
+BROKEN = 7
+GOAL = 8
+AT_END = 9
+RUN = 10
+AHEAD = 11
 
 
 class UnknownCall(ValueError):
@@ -31,6 +37,21 @@ def answer_next(desk, reader):
         return desk.tell_check()
     if call == TRIM:
         return desk.tell_trim()
+    if call == USE:
+        return desk.set_trimmed()
+    if call == BROKEN:
+        low = reader.take()
+        return desk.tell_broken(low, reader.take())
+    if call == GOAL:
+        return desk.tell_goal(reader.take_row())
+    if call == AT_END:
+        return desk.tell_at_end(reader.take_row())
+    if call == RUN:
+        most = reader.take()
+        return desk.tell_run(most, reader.take_row())
+    if call == AHEAD:
+        branch = reader.take()
+        return desk.tell_ahead(branch, reader.take())
     raise UnknownCall()
 
 

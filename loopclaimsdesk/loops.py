@@ -1,4 +1,4 @@
-"""Loops: branches with tests and moves, and which facts are usable for a branch."""
+"""Loops: branches with tests and moves, and which facts are usable for a branch and at the loop's end."""
 
 from loopclaimsdesk.facts import AT_MOST, REMAINDER, Fact, contrary
 
@@ -44,4 +44,15 @@ def usable_for(branches, place, claim):
     usable = claim + branches[place].tests
     for branch in branches[:place]:
         usable = usable + where_not_chosen(branch)
+    return usable
+
+
+# None where nothing can be said: the loop's end tells something only if it does so of each branch.
+def usable_at_end(branches, claim):
+    usable = claim
+    for branch in branches:
+        known = where_not_chosen(branch)
+        if len(known) == 0:
+            return None
+        usable = usable + known
     return usable

@@ -1,4 +1,4 @@
-"""Reading: loops, claims and values out of rows of numbers."""
+"""Reading: loops, claims, facts and values out of rows of numbers."""
 
 from loopclaimsdesk.facts import AT_MOST, REMAINDER, Fact
 from loopclaimsdesk.loops import Branch, Given
@@ -116,6 +116,13 @@ def whole_claim(numbers, counters):
     facts = [read_fact(reader, counters) for place in range(size)]
     reader.must_be_over()
     return facts
+
+
+def whole_fact(numbers, counters):
+    reader = Reader(numbers)
+    fact = read_fact(reader, counters)
+    reader.must_be_over()
+    return fact
 
 
 def whole_values(numbers, counters):

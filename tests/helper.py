@@ -4,6 +4,7 @@ from loopclaimsdesk.keeping import answers
 
 CHECK = [4]
 TRIM = [5]
+USE = [6]
 
 HUGE = 10 ** 18
 
@@ -30,6 +31,26 @@ def holds(*values):
 
 def shown(branch, fact):
     return [3, branch, fact]
+
+
+def broken(lo, hi):
+    return [7, lo, hi]
+
+
+def goal(*fact):
+    return [8, len(fact)] + list(fact)
+
+
+def at_end(*fact):
+    return [9, len(fact)] + list(fact)
+
+
+def run(n, *values):
+    return [10, n, len(values)] + list(values)
+
+
+def ahead(branch, fact):
+    return [11, branch, fact]
 
 
 def branch(tests, move):

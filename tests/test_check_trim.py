@@ -96,6 +96,6 @@ class AtALinesBeginning(unittest.TestCase):
         self.assertEqual(answers, [[3], [1], [3, 0, 1, 2], [1, 1, 1, 1], [1, 1, 2, 1], [-2]])
 
     def test_the_branch_is_never_chosen(self):
-        # No answer tells these tests yet, as the claim's own facts always go first.
+        # Answers tell that they never hold together, but not the tests: the claim's own facts always go first.
         told = [(test.times, test.kind, test.number) for test in Desk().branches[0].tests]
         self.assertEqual(told, [([1], AT_MOST, -1), ([-1], AT_MOST, 0)])

@@ -101,6 +101,17 @@ class Names(unittest.TestCase):
         for path, node in nodes((ast.arg, ast.FunctionDef, ast.ClassDef)):
             self.assertNotIn(getattr(node, "arg", None) or node.name, vars(builtins), path.name)
 
+    def test_locals_are_not_called_like_a_class_or_an_import(self):
+        for path, tree in trees():
+            taken = {node.name for node in tree.body if isinstance(node, ast.ClassDef)}
+            taken |= {each.name for node in tree.body if isinstance(node, ast.ImportFrom) for each in node.names}
+            for owner in ast.walk(tree):
+                if isinstance(owner, ast.FunctionDef):
+                    bound = {node.arg for node in ast.walk(owner) if isinstance(node, ast.arg)}
+                    bound |= {node.id for node in ast.walk(owner)
+                              if isinstance(node, ast.Name) and isinstance(node.ctx, ast.Store)}
+                    self.assertEqual(bound & taken, set(), (path.name, owner.name))
+
     def test_methods_and_values(self):
         methods = {node.name for path, owner in nodes(ast.ClassDef) for node in owner.body
                    if isinstance(node, ast.FunctionDef)}

@@ -1,7 +1,5 @@
 import unittest
 
-from loopclaimsdesk.facts import REMAINDER, Fact
-from loopclaimsdesk.loops import Given, ahead_of
 from tests.helper import HUGE, branch, claims, last, loops, same, shown
 
 # The second counter gets the first one's old value: what a fact says of counter 1
@@ -57,11 +55,6 @@ class Ahead(unittest.TestCase):
         self.assertEqual(one([1, 2, 4, 0], [3, 0, 4, 1], [1, 0, 99]), [1, 1, 1, 1])
         self.assertEqual(one([1, 2, 4, 0], [3, 0, 4, 3], [1, 0, -99]), [1, 1, 1, 1])
         self.assertEqual(one([1, 2, 4, 0], [3, 0, 4, 2], [1, 0, 99]), [0])
-
-    def test_remainder_is_from_0_to_below_m(self):
-        for added, number in ((99, 1), (-99, 3), (4, 0), (1, 3)):
-            told = ahead_of([Given(0, added)], Fact([1], REMAINDER, 4, 0))
-            self.assertEqual((told.times, told.kind, told.divisor, told.number), ([1], REMAINDER, 4, number))
 
     def test_all_at_once(self):
         swap = loops(2, branch([], [1, 1, 0, 1, 0, 0]))

@@ -4,7 +4,8 @@ import itertools
 import random
 import unittest
 
-from tests.helper import CHECK, TRIM, ask, claim, holds, loop, shown
+from tests import helper
+from tests.helper import CHECK, TRIM, USE, ask, at_end, broken, claim, goal, holds, loop, run, shown
 
 
 def random_test(source, n):
@@ -184,6 +185,44 @@ def trimmed(branches, facts, n):
         left = stay
 
 
+def usable_at_end(branches, facts, n):
+    found = list(facts)
+    for tests, move in branches:
+        if len(tests) != 1 or tests[0][0] == 3:
+            return None
+        found += where_not(tests[0], n)
+    return found
+
+
+def shown_at_end(branches, facts, target, n):
+    found = usable_at_end(branches, facts, n)
+    return [-4] if found is None else first_shown(found, target)
+
+
+def first_broken(branches, facts, lo, hi, n):
+    for values in itertools.product(range(lo, hi + 1), repeat=n):
+        number = chosen(branches, values)
+        if number is not None and all(fact_holds(fact, values) for fact in facts):
+            behind = moved(branches[number][1], values)
+            for place, fact in enumerate(facts):
+                if not fact_holds(fact, behind):
+                    return [0, number, place, *values]
+    return [1]
+
+
+def done(branches, facts, most, values):
+    rounds = 0
+    while rounds < most and chosen(branches, values) is not None:
+        values = moved(branches[chosen(branches, values)][1], values)
+        rounds += 1
+    first = 0 if chosen(branches, values) is None else 2
+    return [first, rounds, *values, *[int(fact_holds(fact, values)) for fact in facts]]
+
+
+def fact_numbers(fact):
+    return list(fact[0] + fact[1])
+
+
 class Words(unittest.TestCase):
     def loops_and_claims(self, seed, size):
         source = random.Random(seed)
@@ -209,6 +248,83 @@ class Words(unittest.TestCase):
             for row, answer in zip(values, told[2:]):
                 wrong = [k for k, fact in enumerate(facts) if not fact_holds(fact, row)]
                 self.assertEqual(answer, [0, wrong[0]] if wrong else [1])
+
+    def test_use(self):
+        for source, n, branches, facts in self.loops_and_claims(4, 150):
+            left = [facts[k] for k in trimmed(branches, facts, n)[1:]]
+            told = ask(loop(n, loop_numbers(branches)), claim(claim_numbers(facts)), USE, CHECK, TRIM, USE)
+            asked = claim_numbers(left)
+            self.assertEqual(told[2:], [asked, [1], [len(left)] + list(range(len(left))), asked])
+
+    def test_goal_and_at_end(self):
+        ends = 0
+        for source, n, branches, facts in self.loops_and_claims(5, 500):
+            goals = [random_fact(source, n) for turn in range(6)]
+            told = ask(loop(n, loop_numbers(branches)), claim(claim_numbers(facts)),
+                       *[goal(*fact_numbers(fact)) for fact in goals], *[at_end(*fact_numbers(fact)) for fact in goals])
+            self.assertEqual(told[2:8], [first_shown(facts, fact) for fact in goals])
+            self.assertEqual(told[8:], [shown_at_end(branches, facts, fact, n) for fact in goals])
+            ends += sum(answer != [-4] for answer in told[8:])
+        self.assertGreater(ends, 200)
+
+    def test_broken(self):
+        found = 0
+        for source, n, branches, facts in self.loops_and_claims(6, 1000):
+            few = facts[:source.randint(1, 3)]
+            lo = source.randint(-4, 0)
+            hi = lo + source.randrange((125, 11, 5, 3)[n - 1])
+            told = ask(loop(n, loop_numbers(branches)), claim(claim_numbers(few)), broken(lo, hi))
+            self.assertEqual(told[2], first_broken(branches, few, lo, hi, n))
+            found += told[2][0] == 0
+        self.assertGreater(found, 200)
+
+    def test_run(self):
+        over = 0
+        for source, n, branches, facts in self.loops_and_claims(7, 300):
+            asked = [(source.choice((0, 1, 2, 3, 7, 200)), tuple(source.randint(-9, 9) for each in range(n)))
+                     for turn in range(10)]
+            told = ask(loop(n, loop_numbers(branches)), claim(claim_numbers(facts)),
+                       *[run(most, *values) for most, values in asked])
+            self.assertEqual(told[2:], [done(branches, facts, most, values) for most, values in asked])
+            over += sum(answer[0] == 0 and answer[1] > 0 for answer in told[2:])
+        self.assertGreater(over, 200)
+
+    def test_ahead(self):
+        for source, n, branches, facts in self.loops_and_claims(8, 150):
+            each = [(b, f) for b in range(len(branches)) for f in range(len(facts))]
+            told = ask(loop(n, loop_numbers(branches)), claim(claim_numbers(facts)),
+                       *[helper.ahead(b, f) for b, f in each])
+            self.assertEqual(told[2:], [[0] + fact_numbers(ahead(branches[b][1], facts[f])) for b, f in each])
+
+    def test_what_has_to_be_so_ahead_is_what_is_so_behind(self):
+        for source, n, branches, facts in self.loops_and_claims(9, 150):
+            told = ask(loop(n, loop_numbers(branches)), claim(claim_numbers(facts)),
+                       *[helper.ahead(0, f) for f in range(len(facts))])[2:]
+            for turn in range(20):
+                values = tuple(source.randint(-9, 9) for each in range(n))
+                behind = moved(branches[0][1], values)
+                for fact, answer in zip(facts, told):
+                    before = tuple(answer[1:n + 1]), tuple(answer[n + 1:])
+                    self.assertEqual(fact_holds(before, values), fact_holds(fact, behind))
+
+    def test_what_is_kept_is_never_broken(self):
+        for source, n, branches, facts in self.loops_and_claims(10, 200):
+            told = ask(loop(n, loop_numbers(branches)), claim(claim_numbers(facts)), USE, broken(-1, 1))
+            self.assertEqual(told[3], [1])
+
+    def test_what_is_shown_at_the_end_holds_there(self):
+        ends = 0
+        for source, n, branches, facts in self.loops_and_claims(11, 1000):
+            few = facts[:2]
+            goals = [random_fact(source, n) for turn in range(10)]
+            told = ask(loop(n, loop_numbers(branches)), claim(claim_numbers(few)),
+                       *[at_end(*fact_numbers(fact)) for fact in goals])[2:]
+            sure = [fact for fact, answer in zip(goals, told) if answer[0] == 1]
+            for values in itertools.product(range(-3, 4), repeat=n) if sure else ():
+                if chosen(branches, values) is None and all(fact_holds(fact, values) for fact in few):
+                    self.assertTrue(all(fact_holds(fact, values) for fact in sure))
+                    ends += 1
+        self.assertGreater(ends, 50)
 
     def test_what_is_kept_holds_behind_each_round(self):
         rounds = 0
